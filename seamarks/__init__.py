@@ -1,0 +1,1 @@
+"""Seamarks: where a ship can have been, by what was seen from her."""
