@@ -7,6 +7,11 @@ def turn(one, other):
     return one[0] * other[1] - one[1] * other[0]
 
 
+def along(one, other):
+    # Of a side and a direction: above nought where the direction leads to the edge and out, below where it leads in.
+    return one[0] * other[0] + one[1] * other[1]
+
+
 def plain(direction):
     return lowest(direction)
 

@@ -6,7 +6,7 @@ import unittest
 
 from exact import MILLION_MILLIONS, ExactCase, place
 from seamarks.sides import (
-    bearing_sides, crossing, holds, on_edge, plain, plain_side, pushed, range_side, turn,
+    along, bearing_sides, crossing, holds, on_edge, plain, plain_side, pushed, range_side, turn,
 )
 
 GREAT = 999999999999
@@ -71,6 +71,14 @@ class TurnTest(unittest.TestCase):
     def test_great_numbers(self):
         self.assertEqual(turn((GREAT, GREAT - 1), (GREAT + 1, GREAT)), 1)
         self.assertEqual(turn((GREAT + 1, GREAT), (GREAT, GREAT - 1)), -1)
+
+
+class AlongTest(unittest.TestCase):
+    def test_written_out(self):
+        self.assertEqual(along((2, 3), (5, 7)), 31)
+        self.assertEqual(along((2, 3), (3, -2)), 0)
+        self.assertEqual(along((2, 3), (-5, 1)), -7)
+        self.assertEqual(along((2, 3, 99), (1, 0)), 2)
 
 
 class PlainTest(PlainCase):
