@@ -1,4 +1,4 @@
-"""What several tests share: exact numbers to hold the program's answers against, and waters to ask of."""
+"""What several tests share: exact numbers to hold the program's answers against, and waters and books to ask of."""
 
 import copy
 import itertools
@@ -6,6 +6,9 @@ import math
 import random
 import unittest
 from fractions import Fraction
+
+from seamarks import asks
+from seamarks.book import Book
 
 MILLION_MILLIONS = 10 ** 12
 GREAT = MILLION_MILLIONS - 1
@@ -46,6 +49,19 @@ WATERS = {
     "a square with idle sides": [(1, 1, 99), (1, 0, 4), (0, 1, 9), (-1, 0, 0), (0, 1, 4), (2, 0, 9), (0, -1, 0)],
     "a square touched at corners": [(1, 0, 4), (-1, 0, 0), (0, 1, 4), (0, -1, 0), (1, 1, 8), (1, 2, 12), (-1, 1, 4)],
 }
+
+# Three notes, each of another moment; the water is closed, and the ship may have been on the bank.
+FAIRWAY = (
+    ("mark", "ann", 10, 0),
+    ("mark", "bob", 0, 10),
+    ("mark", "cid", -10, -5),
+    ("bank", "sand", ((0, 0), (4, 0), (0, 4))),
+    ("sail", 3, -1),
+    ("sail", -2, 5),
+    ("bearing", 0, "ann", (1, -1), (1, 1)),
+    ("range", 1, "bob", "ann"),
+    ("bearing", 2, "cid", (-1, 0), (0, -1)),
+)
 
 
 def place(triple):
@@ -123,6 +139,88 @@ def round_water(count, size=1000):
         sides.append((a, b, 7 * math.isqrt(a * a + b * b)))
     random.Random(count).shuffle(sides)
     return sides
+
+
+def by_method(book, deed):
+    return getattr(book, {"range": "range_note"}.get(deed[0], deed[0]))(*deed[1:])
+
+
+def book_of(deeds):
+    book = Book()
+    for deed in deeds:
+        book.deed(deed)
+    return book
+
+
+def stands(book):
+    """All that can be asked of the book itself, but for what can be undone and done again."""
+    return (book.marks(), book.banks(), book.runs(), book.notes(), book.coming())
+
+
+def kept(book):
+    return (stands(book), book.deeds(), book.undone())
+
+
+def answers(book, moment):
+    """What is asked of the water at one moment, each by its name."""
+    told = {
+        "sides": asks.note_sides(book, moment),
+        "groups": asks.note_groups(book, moment),
+        "corners": asks.book_corners(book, moment),
+        "area": asks.book_area(book, moment),
+        "ways": asks.book_ways(book, moment),
+        "clash": asks.book_clash(book),
+        "choices": asks.book_choices(book),
+    }
+    for direction in ((1, 0), (-2, 3), (0, -1)):
+        told["reach", direction] = asks.book_reach(book, moment, direction)
+    for name, corners in book.banks():
+        told["bank", name] = asks.book_bank(book, moment, name)
+    return told
+
+
+def all_answers(book):
+    return [answers(book, moment) for moment in range(len(book.runs()) + 1)]
+
+
+def between(one, sight, other):
+    """Whether the direction is one of the two or between them, the second being to the left of the first."""
+    return all(a * d - b * c >= 0 for (a, b), (c, d) in ((one, sight), (sight, other)))
+
+
+def sighted(chance, ship, mark, wrong):
+    sight = (mark[0] - ship[0], mark[1] - ship[1])
+    while True:
+        one, other = [(chance.randint(-9, 9), chance.randint(-9, 9)) for _ in range(2)]
+        if one[0] * other[1] > one[1] * other[0] and (wrong or between(one, sight, other)):
+            return (one, other)
+
+
+def voyage(chance, wrong=0.1, most=9):
+    """The deeds of a book whose notes are true of one ship, but for some: marks, runs and banks, then the notes."""
+    places = random.Random(chance.random()).sample(list(itertools.product(range(-20, 21), repeat=2)), 5)
+    marks = dict(zip(("ann", "bob", "cid", "dan", "eve"), places))
+    deeds = [("mark", name, x, y) for name, (x, y) in marks.items()]
+    deeds.append(("bank", "sand", ((-3, -4), (5, -2), (6, 7), (-1, 4))))
+    deeds.append(("bank", "rock", ((30, 30), (31, 30), (30, 31))))
+    deeds.append(("bank", "shelf", ((-60, -40), (60, -40), (50, 40), (-50, 40))))
+    ships = [(chance.randint(-9, 9), chance.randint(-9, 9))]
+    for _ in range(chance.randint(0, 4)):
+        run = (chance.randint(-6, 6), chance.randint(-6, 6))
+        deeds.append(("sail",) + run)
+        ships.append((ships[-1][0] + run[0], ships[-1][1] + run[1]))
+    for _ in range(chance.randint(0, most)):
+        moment = chance.randrange(len(ships))
+        x, y = ships[moment]
+        left, right = chance.sample(sorted(marks), 2)
+        if chance.random() < 0.6:
+            deeds.append(("bearing", moment, left) + sighted(chance, (x, y), marks[left], chance.random() < wrong))
+        else:
+            (p, q), (r, s) = marks[left], marks[right]
+            if (r - x) * (q - y) < (s - y) * (p - x) and chance.random() >= wrong:
+                left, right = right, left
+            deeds.append(("range", moment, left, right))
+    return deeds
 
 
 def all_lists(value):

@@ -151,6 +151,29 @@ class LanguageTest(unittest.TestCase):
             self.assertLessEqual(len(node.bases), 1)
             methods = [inner.name for inner in node.body if not isinstance(inner, ast.Pass)]
             self.assertEqual(len(methods), len(set(methods)), f"{name}: {node.name}")
+        methods = {inner.name for name, node in nodes(ast.ClassDef) for inner in node.body if hasattr(inner, "name")}
+        values = {node.attr for name, node in nodes(ast.Attribute) if isinstance(node.ctx, ast.Store)}
+        self.assertEqual(methods & values, set())
+        for word in methods - TWO_UNDERSCORES | values:
+            for kind in (str, int, list, tuple, dict, set, frozenset, bytes):
+                self.assertFalse(hasattr(kind, word), word)
+
+    def test_lists_and_dicts_of_a_file_s_top(self):
+        for name, tree in TREES.items():
+            kept = {target.id: node.value for node in tree.body if isinstance(node, ast.Assign)
+                    for target in node.targets if isinstance(node.value, (ast.List, ast.Dict))}
+            for value in kept.values():
+                inner = [node for node in ast.walk(value) if isinstance(node, (ast.List, ast.Dict))]
+                self.assertEqual(inner, [value], name)
+            # Read by an index or by get alone.
+            read = [node.value for node in ast.walk(tree) if isinstance(node, ast.Subscript)]
+            read += [node.value for node in ast.walk(tree) if isinstance(node, ast.Attribute) and node.attr == "get"]
+            for node in ast.walk(tree):
+                if isinstance(node, ast.Name) and isinstance(node.ctx, ast.Load) and node.id in kept:
+                    self.assertIn(node, read, f"{name}: {node.lineno}")
+            for node in [node for node in ast.walk(tree) if isinstance(node, ast.Subscript)]:
+                if isinstance(node.value, ast.Name) and node.value.id in kept:
+                    self.assertIsInstance(node.ctx, ast.Load, f"{name}: {node.lineno}")
 
 
 if __name__ == "__main__":
