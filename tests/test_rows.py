@@ -211,7 +211,8 @@ class BadRowTest(RowsCase):
     def test_corners(self):
         for row in ("bank", "bank rock", "bank rock 0", "bank rock 0 0", "bank rock 0 0 4 0", "bank rock 0 0 4 0 0",
                     "bank rock 0 0 4 0 0 4 0", "bank rock 0 0 4 0 0 4 5 5 5", "bank 0 0 4 0 0 4",
-                    "bank rock 0 0 0 4 4 0", "bank rock a b c d e f", "bank rock rock 0 0 4 0 0 4", "bank rock 0 0 4 0 0 rock"):
+                    "bank rock 0 0 0 4 4 0", "bank rock a b c d e f", "bank rock rock 0 0 4 0 0 4",
+                    "bank rock 0 0 4 0 0 rock"):
             self.assert_bad(row)
         self.assert_good("bank rock 0 0 4 0 0 4")
         self.assert_good("bank rock 2 0 4 0 6 2 6 4 4 6 2 6 0 4 0 2")
